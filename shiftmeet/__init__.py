@@ -1,0 +1,1 @@
+"""Shiftmeet: sleepers that wake by plans, and a shift that nobody knows."""

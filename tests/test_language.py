@@ -1,0 +1,102 @@
+"""The form of the package's own files: the rules that a look at the tree of a file can tell."""
+
+import ast
+import builtins
+import pathlib
+import re
+import unittest
+
+PACKAGE = pathlib.Path(__file__).resolve().parent.parent / "shiftmeet"
+
+CALLED = set("""
+    len range enumerate zip min max sum abs sorted reversed int str bool list tuple dict set frozenset isinstance
+    ord repr any all divmod Exception ValueError TypeError KeyError IndexError LookupError ZeroDivisionError
+    ArithmeticError OverflowError RuntimeError NotImplementedError AttributeError StopIteration
+""".split())
+
+METHODS = set("""
+    append clear copy count endswith extend find get index insert isalnum isalpha isdigit islower isspace isupper
+    items join keys ljust lower lstrip partition pop remove replace reverse rfind rjust rpartition rsplit rstrip
+    setdefault split splitlines startswith strip update upper values zfill bit_length
+""".split())
+
+WORDS = re.compile(
+    r"\b(type|typing|typing_extensions|enum|Enum|IntEnum|StrEnum|Flag|IntFlag|Generic|Protocol|ABC|ABCMeta"
+    r"|namedtuple|NamedTuple|TypedDict|TYPE_CHECKING|abstractmethod)\b|dataclass|overload|contextmanager")
+
+OUT = (
+    ast.With, ast.Match, ast.Delete, ast.Global, ast.Nonlocal, ast.Assert, ast.Yield, ast.YieldFrom, ast.Await,
+    ast.AsyncFor, ast.AsyncFunctionDef, ast.AsyncWith, ast.Div, ast.SetComp, ast.DictComp, ast.GeneratorExp,
+    ast.NamedExpr, ast.Starred, ast.Import, ast.AnnAssign)
+
+
+def files():
+    return sorted(path for path in PACKAGE.rglob("*") if path.is_file() and "__pycache__" not in path.parts)
+
+
+def trees():
+    return [(path, ast.parse(path.read_text("utf-8"))) for path in files()]
+
+
+def nodes(*kinds):
+    return [(path, node) for path, tree in trees() for node in ast.walk(tree) if isinstance(node, kinds)]
+
+
+class Language(unittest.TestCase):
+    def test_files_and_signs(self):
+        self.assertIn(PACKAGE / "__init__.py", files())
+        for path in files():
+            self.assertRegex(path.name, r"^([a-z][a-z0-9_]*|__init__|__main__)\.py$")
+            text = path.read_text("utf-8")
+            rows = text.split("\n")
+            self.assertLessEqual(len(rows), 401, path)
+            for number, row in enumerate(rows, start=1):
+                self.assertRegex(row, r"^[ -~]{0,120}$", f"{path}:{number}")
+                self.assertIsNone(WORDS.search(row), f"{path}:{number}")
+
+    def test_functions_are_short_and_plain(self):
+        for path, node in nodes(ast.FunctionDef):
+            place = f"{path}:{node.lineno}"
+            self.assertLessEqual(node.end_lineno - node.lineno + 1, 40, place)
+            self.assertEqual(node.decorator_list, [], place)
+            self.assertIsNone(node.args.vararg, place)
+            self.assertIsNone(node.args.kwarg, place)
+            self.assertEqual(node.args.kwonlyargs, [], place)
+
+    def test_only_the_package_itself_is_imported(self):
+        for path, node in nodes(ast.ImportFrom):
+            self.assertEqual(node.level, 0, path)
+            self.assertTrue(node.module.startswith("shiftmeet."), path)
+
+    def test_no_statement_or_value_that_is_out(self):
+        for path, node in nodes(*OUT):
+            self.fail(f"{path}:{node.lineno}: {type(node).__name__}")
+        for path, node in nodes(ast.For, ast.While):
+            self.assertEqual(node.orelse, [], f"{path}:{node.lineno}")
+        for path, node in nodes(ast.Try):
+            self.assertEqual(node.finalbody, [], f"{path}:{node.lineno}")
+        for path, node in nodes(ast.Assign):
+            self.assertEqual(len(node.targets), 1, f"{path}:{node.lineno}")
+        for path, node in nodes(ast.Constant):
+            self.assertNotIsInstance(node.value, (float, complex, bytes), f"{path}:{node.lineno}")
+
+    def test_names(self):
+        own = dir(builtins)
+        for path, node in nodes(ast.Name):
+            place = f"{path}:{node.lineno}: {node.id}"
+            self.assertRegex(node.id, r"^[A-Za-z]", place)
+            if node.id in own:
+                self.assertIn(node.id, CALLED, place)
+                self.assertIsInstance(node.ctx, ast.Load, place)
+        for path, node in nodes(ast.arg):
+            self.assertNotIn(node.arg, own, path)
+
+    def test_methods_of_python_s_own_values(self):
+        own = {name for kind in (str, int, list, tuple, dict, set, bytes) for name in dir(kind)}
+        for path, node in nodes(ast.Attribute):
+            if node.attr in own:
+                self.assertIn(node.attr, METHODS | {"add", "__init__"}, f"{path}:{node.lineno}")
+
+
+if __name__ == "__main__":
+    unittest.main()
