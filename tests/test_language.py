@@ -42,6 +42,20 @@ def nodes(*kinds):
     return [(path, node) for path, tree in trees() for node in ast.walk(tree) if isinstance(node, kinds)]
 
 
+def imported(tree):
+    return [alias.name for node in tree.body if isinstance(node, ast.ImportFrom) for alias in node.names]
+
+
+def drawn_from(tree):
+    return {node.module for node in tree.body if isinstance(node, ast.ImportFrom)}
+
+
+def defined(tree):
+    names = [node.name for node in tree.body if isinstance(node, (ast.FunctionDef, ast.ClassDef))]
+    assigned = [node for node in tree.body if isinstance(node, ast.Assign)]
+    return names + [target.id for node in assigned for target in node.targets]
+
+
 class Language(unittest.TestCase):
     def test_files_and_signs(self):
         self.assertIn(PACKAGE / "__init__.py", files())
@@ -96,6 +110,42 @@ class Language(unittest.TestCase):
         for path, node in nodes(ast.Attribute):
             if node.attr in own:
                 self.assertIn(node.attr, METHODS | {"add", "__init__"}, f"{path}:{node.lineno}")
+
+    def test_names_at_a_file_s_top_are_bound_once(self):
+        for path, tree in trees():
+            names = imported(tree) + defined(tree)
+            self.assertEqual(len(names), len(set(names)), path)
+
+    def test_no_local_is_called_like_an_import_or_a_class(self):
+        for path, tree in trees():
+            taken = imported(tree) + [node.name for node in tree.body if isinstance(node, ast.ClassDef)]
+            for node in ast.walk(tree):
+                if isinstance(node, ast.Name) and isinstance(node.ctx, ast.Store):
+                    self.assertNotIn(node.id, taken, f"{path}:{node.lineno}")
+                if isinstance(node, ast.arg):
+                    self.assertNotIn(node.arg, taken, f"{path}:{node.lineno}")
+
+    def test_each_import_is_from_the_file_that_defines_it(self):
+        own = {"shiftmeet." + path.stem: defined(tree) for path, tree in trees()}
+        for path, node in nodes(ast.ImportFrom):
+            for alias in node.names:
+                self.assertIn(alias.name, own[node.module], path)
+                self.assertIsNone(alias.asname, path)
+
+    def test_no_two_files_draw_from_one_another(self):
+        left = {"shiftmeet." + path.stem: drawn_from(tree) for path, tree in trees()}
+        while left:
+            done = [name for name in left if not left[name] & set(left)]
+            self.assertNotEqual(done, [], sorted(left))
+            for name in done:
+                left.pop(name)
+
+    def test_is_stands_beside_none_true_and_false_alone(self):
+        for path, node in nodes(ast.Compare):
+            for kind, right in zip(node.ops, node.comparators):
+                if isinstance(kind, (ast.Is, ast.IsNot)):
+                    self.assertIsInstance(right, ast.Constant, f"{path}:{node.lineno}")
+                    self.assertIn(right.value, (None, True, False), f"{path}:{node.lineno}")
 
 
 if __name__ == "__main__":
