@@ -140,6 +140,48 @@ class Language(unittest.TestCase):
             for name in done:
                 left.pop(name)
 
+    def test_comprehensions_and_f_strings_are_plain(self):
+        for path, node in nodes(ast.ListComp):
+            self.assertEqual(len(node.generators), 1, f"{path}:{node.lineno}")
+            self.assertLessEqual(len(node.generators[0].ifs), 1, f"{path}:{node.lineno}")
+        for path, node in nodes(ast.FormattedValue):
+            self.assertIsInstance(node.value, ast.Name, f"{path}:{node.lineno}")
+            self.assertIsNone(node.format_spec, f"{path}:{node.lineno}")
+
+    def test_errors_are_taken_by_the_program_s_own_names(self):
+        own = defined(ast.parse((PACKAGE / "errors.py").read_text("utf-8")))
+        for path, node in nodes(ast.ExceptHandler):
+            self.assertIsInstance(node.type, ast.Name, f"{path}:{node.lineno}")
+            self.assertIn(node.type.id, own, f"{path}:{node.lineno}")
+        for path, node in nodes(ast.Raise):
+            self.assertIsInstance(node.exc, ast.Call, f"{path}:{node.lineno}")
+            self.assertIn(node.exc.func.id, own, f"{path}:{node.lineno}")
+
+    def test_classes(self):
+        methods, values = [], []
+        for path, node in nodes(ast.ClassDef):
+            place = f"{path}:{node.lineno}"
+            self.assertLessEqual(len(node.bases), 1, place)
+            self.assertEqual((node.keywords, node.decorator_list), ([], []), place)
+            for part in node.body:
+                self.assertIsInstance(part, (ast.FunctionDef, ast.Pass), place)
+            names = [part.name for part in node.body if isinstance(part, ast.FunctionDef)]
+            self.assertEqual(len(names), len(set(names)), place)
+            methods += names
+            values += [part.attr for part in ast.walk(node)
+                       if isinstance(part, ast.Attribute) and isinstance(part.ctx, ast.Store)]
+        self.assertEqual(set(methods) & set(values), set())
+        for name in methods + values:
+            self.assertRegex(name, r"^([a-z][a-z0-9_]*|__init__)$")
+
+    def test_lists_and_dicts_of_a_file_s_top_hold_no_list_or_dict(self):
+        for path, tree in trees():
+            for node in [part.value for part in tree.body if isinstance(part, ast.Assign)]:
+                self.assertIsInstance(node, (ast.Constant, ast.Tuple, ast.List, ast.Dict), f"{path}:{node.lineno}")
+                within = [part for part in ast.walk(node) if part is not node]
+                for part in within:
+                    self.assertNotIsInstance(part, (ast.List, ast.Dict, ast.Set, ast.Call), f"{path}:{node.lineno}")
+
     def test_is_stands_beside_none_true_and_false_alone(self):
         for path, node in nodes(ast.Compare):
             for kind, right in zip(node.ops, node.comparators):
